@@ -7,6 +7,7 @@ import (
 	"testing"
 
 	"corncrib/api"
+	"corncrib/sample"
 	"corncrib/sum"
 )
 
@@ -17,17 +18,6 @@ var (
 	example = []byte("123456789")
 	sealed  = []byte("123456789\x83\x92\x06\xE3")
 )
-
-// some tells n bytes of all kinds, always the same.
-func some(n int) []byte {
-	b := make([]byte, n)
-	state := uint32(n) + 1
-	for i := range b {
-		state = state*1664525 + 1013904223
-		b[i] = byte(state >> 24)
-	}
-	return b
-}
 
 // run tells n bytes: the first one, and each the last one and step.
 func run(n int, first, step byte) []byte {
@@ -40,13 +30,6 @@ func run(n int, first, step byte) []byte {
 
 // lengths are those about the edges, and about powers of two.
 var lengths = []int{0, 1, 2, 3, 4, 5, 7, 8, 9, 15, 16, 17, 31, 32, 33, 63, 64, 65, 255, 256, 257, 1000, 4095, 4096, 4097}
-
-// turned tells a copy of b with one bit turned.
-func turned(b []byte, bit int) []byte {
-	b = bytes.Clone(b)
-	b[bit/8] ^= 1 << (bit % 8)
-	return b
-}
 
 func TestOfKnownSums(t *testing.T) {
 	for _, x := range []struct {
@@ -79,7 +62,7 @@ func TestOfAsReckonedOtherwise(t *testing.T) {
 		}
 	}
 	for _, n := range append(lengths, 1<<20+3) {
-		for _, b := range [][]byte{some(n), make([]byte, n), bytes.Repeat([]byte{255}, n)} {
+		for _, b := range [][]byte{sample.Bytes(n), make([]byte, n), bytes.Repeat([]byte{255}, n)} {
 			if got, want := sum.Of(b), crc32.Checksum(b, castagnoli); got != want {
 				t.Errorf("P2.1: Of %d bytes: %#x; want %#x", n, got, want)
 			}
@@ -105,7 +88,7 @@ func TestSumsHangOnTheBytesAlone(t *testing.T) {
 }
 
 func TestMoreInTwoParts(t *testing.T) {
-	for _, b := range [][]byte{nil, {0}, {255}, example, some(70), make([]byte, 20), bytes.Repeat([]byte{255}, 20)} {
+	for _, b := range [][]byte{nil, {0}, {255}, example, sample.Bytes(70), make([]byte, 20), bytes.Repeat([]byte{255}, 20)} {
 		whole := sum.Of(b)
 		for i := range len(b) + 1 {
 			if got := sum.More(sum.Of(b[:i]), b[i:]); got != whole {
@@ -116,7 +99,7 @@ func TestMoreInTwoParts(t *testing.T) {
 }
 
 func TestMoreInManyParts(t *testing.T) {
-	b := some(1000)
+	b := sample.Bytes(1000)
 	for _, part := range []int{1, 2, 3, 7, 8, 64, 999, 1000, 2000} {
 		// The sum of nothing is where all others go on from.
 		got := sum.Of(nil)
@@ -141,7 +124,7 @@ func TestMoreOfAnySum(t *testing.T) {
 				t.Errorf("P2.1: More(%#x) of no bytes: %#x", s, got)
 			}
 		}
-		for _, b := range [][]byte{{0}, {1}, {0x80}, {255}, example, some(33)} {
+		for _, b := range [][]byte{{0}, {1}, {0x80}, {255}, example, sample.Bytes(33)} {
 			if got, want := sum.More(s, b), crc32.Update(s, castagnoli, b); got != want {
 				t.Errorf("P2.1: More(%#x, %v): %#x; want %#x", s, b, got, want)
 			}
@@ -245,7 +228,7 @@ func TestSealAndOpenLeaveWhatIsHandedIn(t *testing.T) {
 
 func TestWhatIsSealedIsOpened(t *testing.T) {
 	for _, n := range lengths {
-		for _, b := range [][]byte{some(n), make([]byte, n), bytes.Repeat([]byte{255}, n)} {
+		for _, b := range [][]byte{sample.Bytes(n), make([]byte, n), bytes.Repeat([]byte{255}, n)} {
 			s := sum.Seal(b)
 			if len(s) != n+4 || !bytes.Equal(s[:n], b) {
 				t.Fatalf("P2.3: Seal of %d bytes tells %d", n, len(s))
@@ -263,10 +246,10 @@ func TestWhatIsSealedIsOpened(t *testing.T) {
 
 func TestOneBitTurnedIsNotOpened(t *testing.T) {
 	for n := range 41 {
-		for _, b := range [][]byte{some(n), make([]byte, n), bytes.Repeat([]byte{255}, n)} {
+		for _, b := range [][]byte{sample.Bytes(n), make([]byte, n), bytes.Repeat([]byte{255}, n)} {
 			s := sum.Seal(b)
 			for bit := range 8 * len(s) {
-				if !refused(turned(s, bit), api.ErrSum) {
+				if !refused(sample.Turned(s, bit), api.ErrSum) {
 					t.Errorf("P2.3: Open of %v with bit %d turned: it isn't refused", s, bit)
 				}
 			}
@@ -275,14 +258,14 @@ func TestOneBitTurnedIsNotOpened(t *testing.T) {
 }
 
 func TestOneBitOfManyTurnedIsNotOpened(t *testing.T) {
-	s := sum.Seal(some(4096))
+	s := sum.Seal(sample.Bytes(4096))
 	last := 8*len(s) - 1
 	bits := []int{0, 1, 8, last - 32, last - 31, last - 1, last}
 	for bit := 5; bit < last; bit += 101 {
 		bits = append(bits, bit)
 	}
 	for _, bit := range bits {
-		if !refused(turned(s, bit), api.ErrSum) {
+		if !refused(sample.Turned(s, bit), api.ErrSum) {
 			t.Errorf("P2.3: Open of 4096 bytes with bit %d turned: it isn't refused", bit)
 		}
 	}

@@ -1,0 +1,24 @@
+// Package sample tells bytes for the layers' tests.
+package sample
+
+import "bytes"
+
+// Bytes tells n bytes of all kinds, always the same: no test hangs on chance.
+func Bytes(n int) []byte {
+	b := make([]byte, max(n, 0))
+	state := uint32(len(b)) + 1
+	for i := range b {
+		state = state*1664525 + 1013904223
+		b[i] = byte(state >> 24)
+	}
+	return b
+}
+
+// Turned tells a copy of b with one bit turned, if it has that bit.
+func Turned(b []byte, bit int) []byte {
+	b = bytes.Clone(b)
+	if bit >= 0 && bit/8 < len(b) {
+		b[bit/8] ^= 1 << (bit % 8)
+	}
+	return b
+}
