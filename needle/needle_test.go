@@ -488,14 +488,14 @@ func TestPutLeavesWhatIsHandedIn(t *testing.T) {
 		if e != nil || !bytes.Equal(want, whole(n)) {
 			t.Fatalf("P3.1: Put of %d bytes with room behind: %v", size, e)
 		}
-		fill(b)
+		sample.Spoil(b)
 		if !bytes.Equal(room, before) {
 			t.Errorf("P3.1: Put of %d bytes: what is handed in, or the room behind, is changed", size)
 		}
 		if again, _ := needle.Put(n); !bytes.Equal(again, want) {
 			t.Errorf("P3.1: Put of %d bytes: answers share memory", size)
 		}
-		fill(room)
+		sample.Spoil(room)
 		if needle.Same(n, api.Needle{Key: 1, Cookie: 2, Data: before[:size]}) != (size == 0) {
 			t.Errorf("P3.1: Same keeps what it was asked")
 		}
@@ -511,23 +511,15 @@ func TestGetLeavesWhatIsHandedIn(t *testing.T) {
 		if e != nil || end != len(room)-8 || !alike(n, want) {
 			t.Fatalf("P3.2: Get of %d bytes with room behind: %d, %v", size, end, e)
 		}
-		fill(n.Data)
+		sample.Spoil(n.Data)
 		if !bytes.Equal(room, before) {
 			t.Errorf("P3.2: Get of %d bytes: what is handed in, or the room behind, is changed", size)
 		}
 		n, _, _ = needle.Get(room)
-		fill(room)
+		sample.Spoil(room)
 		if !alike(n, want) {
 			t.Errorf("P3.2: Get of %d bytes: the data is the argument's memory", size)
 		}
-	}
-}
-
-// fill writes over all of b, and over the room behind it.
-func fill(b []byte) {
-	b = b[:cap(b)]
-	for i := range b {
-		b[i] = 99
 	}
 }
 

@@ -22,3 +22,11 @@ func Turned(b []byte, bit int) []byte {
 	}
 	return b
 }
+
+// Spoil writes over all of b, and over the room behind it.
+func Spoil(b []byte) {
+	b = b[:cap(b)]
+	for i := range b {
+		b[i] = ^b[i]
+	}
+}

@@ -48,3 +48,12 @@ func TestTurned(t *testing.T) {
 		t.Errorf("Turned changes what is handed in: %v", b)
 	}
 }
+
+func TestSpoil(t *testing.T) {
+	b := []byte{0, 1, 255, 7}
+	sample.Spoil(b[1:2])
+	if !bytes.Equal(b, []byte{0, 254, 0, 248}) {
+		t.Errorf("Spoil of one byte with two behind it: %v", b)
+	}
+	sample.Spoil(nil)
+}
