@@ -2,7 +2,6 @@ package disk_test
 
 import (
 	"bytes"
-	"errors"
 	"maps"
 	"math"
 	"slices"
@@ -20,14 +19,8 @@ const plenty = 1 << 20 // a capacity that is of no weight
 // is asks that e is an error of this code and of no other one; 0 is no error.
 func is(t *testing.T, why string, e error, code api.Code) {
 	t.Helper()
-	if code == 0 && e != nil || code != 0 && e == nil {
+	if !sample.Is(e, code) {
 		t.Errorf("%s: %v; want code %d", why, e, code)
-		return
-	}
-	for c := api.ErrArg; c <= api.ErrWait; c++ {
-		if errors.Is(e, c) != (c == code) {
-			t.Errorf("%s: %v; want code %d", why, e, code)
-		}
 	}
 }
 

@@ -1,7 +1,12 @@
-// Package sample tells bytes for the layers' tests.
+// Package sample tells bytes for the layers' tests, and what errors are of.
 package sample
 
-import "bytes"
+import (
+	"bytes"
+	"errors"
+
+	"corncrib/api"
+)
 
 // Bytes tells n bytes of all kinds, always the same: no test hangs on chance.
 func Bytes(n int) []byte {
@@ -29,4 +34,15 @@ func Spoil(b []byte) {
 	for i := range b {
 		b[i] = ^b[i]
 	}
+}
+
+// Is tells whether e is an error of this code and of no other one of api's; no
+// error is of the code 0.
+func Is(e error, code api.Code) bool {
+	for c := api.ErrArg; c <= api.ErrWait; c++ {
+		if errors.Is(e, c) != (c == code) {
+			return false
+		}
+	}
+	return (e == nil) == (code == 0)
 }

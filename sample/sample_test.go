@@ -2,9 +2,11 @@ package sample_test
 
 import (
 	"bytes"
+	"errors"
 	"math"
 	"testing"
 
+	"corncrib/api"
 	"corncrib/sample"
 )
 
@@ -56,4 +58,23 @@ func TestSpoil(t *testing.T) {
 		t.Errorf("Spoil of one byte with two behind it: %v", b)
 	}
 	sample.Spoil(nil)
+}
+
+func TestIs(t *testing.T) {
+	other := errors.New("another error")
+	for code := api.Code(0); code <= api.ErrWait; code++ {
+		for c := api.ErrArg; c <= api.ErrWait; c++ {
+			for _, e := range []error{c, &api.At{File: "m3", Err: c}, errors.Join(other, c)} {
+				if sample.Is(e, code) != (c == code) {
+					t.Errorf("Is(%v, %d)", e, code)
+				}
+			}
+			if sample.Is(errors.Join(c, api.ErrWait), code) != (c == code && c == api.ErrWait) {
+				t.Errorf("Is of %d and ErrWait, %d", c, code)
+			}
+		}
+		if sample.Is(other, code) || sample.Is(nil, code) != (code == 0) {
+			t.Errorf("Is of no error, or of another one, %d", code)
+		}
+	}
 }
