@@ -273,6 +273,21 @@ func fullDisk(t *testing.T, kind, old string, room int) {
 	opens(t, "P11.2: Run behind it", d, was)
 }
 
+// The last step that begins the file anew may find no room for its superblock.
+func TestFullDiskInTheLastStep(t *testing.T) {
+	d, v := begun(t)
+	was := seen(v)
+	c := ahead(t, d, v, 1)
+	must(t, d.Cut("v3.2", 0))
+	laid(t, d, "x", string(make([]byte, plenty-d.Used()-15)))
+	before := without(files(d), "v3.2")
+	told(t, "P11.1: the last step without room", c, false, api.ErrFull)
+	has(t, "P11.1: the last step without room", d, before)
+	finished(t, "P11.1: the last step without room", d, c)
+	must(t, d.Crash(disk.Picks{}))
+	opens(t, "P11.1: the last step without room", d, was)
+}
+
 // A disk may have no name left, or one: the file needs one, and then the manifest.
 func TestADiskOfAllNames(t *testing.T) {
 	for free := range 3 {
