@@ -9,6 +9,7 @@ import (
 	"corncrib/api"
 	"corncrib/disk"
 	"corncrib/node"
+	"corncrib/vol"
 	"corncrib/wire"
 )
 
@@ -302,6 +303,17 @@ func TestStartWithoutAVolume(t *testing.T) {
 	must(t, n.Disk().SyncNames())
 	restart(t, n, disk.Picks{})
 	state(t, "P17.3: Start without any volume", n, true, 6)
+}
+
+// Without its data file a volume isn't there, either: ErrNone is wrapped then.
+func TestStartWithoutADataFile(t *testing.T) {
+	n := full(t, 3, 4)
+	must(t, n.Disk().Remove("v4.1"), n.Disk().SyncNames())
+	_, e := vol.Open(n.Disk(), 4, plenty)
+	isAt(t, "P17.3: Open without a data file", e, api.ErrNone, "v4.1", 0)
+	restart(t, n, disk.Picks{})
+	state(t, "P17.3: Start without a data file", n, true, 1, 3)
+	has(t, "P17.3: Start without a data file", n, 3, fulls...)
 }
 
 // A disk that ends while it is started: its error, and once more behind a crash.
